@@ -1,0 +1,1 @@
+"""Maypoint: who may hand a letter on to whom."""

@@ -1,0 +1,50 @@
+"""The interface: names, arguments, and the file in which each thing is defined."""
+
+import importlib
+import inspect
+import unittest
+
+FUNCTIONS = {
+    "numbers": ("check_number(value)", "is_below(one, two)", "least_of(row)", "number_between(low, high, name)"),
+    "stretches": ("check_stretch(value)", "check_address(value)", "stretch_holds(stretch, address)",
+                  "stretches_of(address)", "key_of(stretch, number)", "left_out(stretch, others)"),
+    "wire": ("encode_letter(letter)", "encode_stream(letters)", "decode_letter(octets)", "decode_stream(octets)"),
+}
+
+CLASSES = {
+    "errors": {
+        "OwnError": (), "BadNumber(at)": (), "BadStretch(at)": (), "BadOctets(at)": (), "BadPast(at)": (),
+        "BadDeed(at)": (), "BadRule(at)": (), "BadRow(at)": (), "BadText(at)": (), "Refused(value)": (),
+    },
+}
+
+
+def parameters(call, behind):
+    names = list(inspect.signature(call).parameters)[behind:]
+    return "(" + ", ".join(names) + ")"
+
+
+class Interface(unittest.TestCase):
+
+    def module(self, name):
+        return importlib.import_module("maypoint." + name)
+
+    def test_functions(self):
+        for file, rows in FUNCTIONS.items():
+            for row in rows:
+                name = row.partition("(")[0]
+                function = getattr(self.module(file), name)
+                self.assertEqual(function.__module__, "maypoint." + file)
+                self.assertEqual(name + parameters(function, 0), row)
+
+    def test_classes(self):
+        for file, rows in CLASSES.items():
+            for row, methods in rows.items():
+                name = row.partition("(")[0]
+                kind = getattr(self.module(file), name)
+                self.assertEqual(kind.__module__, "maypoint." + file)
+                if "(" in row:
+                    self.assertEqual(name + parameters(vars(kind)["__init__"], 1), row)
+                for method in methods:
+                    own = vars(kind)[method.partition("(")[0]]
+                    self.assertEqual(own.__name__ + parameters(own, 1), method)
