@@ -9,6 +9,10 @@ FUNCTIONS = {
     "stretches": ("check_stretch(value)", "check_address(value)", "stretch_holds(stretch, address)",
                   "stretches_of(address)", "key_of(stretch, number)", "left_out(stretch, others)"),
     "wire": ("encode_letter(letter)", "encode_stream(letters)", "decode_letter(octets)", "decode_stream(octets)"),
+    "rows": ("begun_row(serial, number)", "row_of(state)"),
+    "books": ("book_of(past)", "check_past(past)"),
+    "worlds": ("run_deeds(deeds)",),
+    "rings": ("handings(world, address)", "ring_in(pairs)", "hand_order(pairs)", "hand_ways(world, address, name)"),
 }
 
 CLASSES = {
@@ -16,6 +20,11 @@ CLASSES = {
         "OwnError": (), "BadNumber(at)": (), "BadStretch(at)": (), "BadOctets(at)": (), "BadPast(at)": (),
         "BadDeed(at)": (), "BadRule(at)": (), "BadRow(at)": (), "BadText(at)": (), "Refused(value)": (),
     },
+    "rows": {"Row()": ("told(serial, number)", "acked(k)", "least()", "since(k)", "newest()", "state()", "copied()")},
+    "books": {"Book(name)": (
+        "add_event(event)", "near()", "v(address, x)", "l(address, x)", "up(address)", "may(address, m)",
+        "let(address)", "why(address, m)", "room(address, m)", "copied()", "row_states(x)")},
+    "worlds": {"World()": ("do(deed)", "names()", "links()", "view(name)", "book(name)", "under_way()")},
 }
 
 
