@@ -36,7 +36,8 @@ class Row:
         """The least number of the reports from the serial k on."""
         if k < 1 or k < self.first or k > self.last:
             raise Refused(k)
-        return [step[1] for step in self.steps if step[0] >= k][0]
+        later = [step[1] for step in self.steps if step[0] >= k]
+        return later[0]
 
     def newest(self):
         """The number of the newest report."""
