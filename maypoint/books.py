@@ -76,6 +76,10 @@ class Book:
         rows = self._rows(x)
         return tuple([(place[0], place[1], rows[place].state()) for place in sorted(rows)])
 
+    def row(self, x, stretch, way):
+        """The row of one way for one stretch alone, which is only to be asked."""
+        return self._rows(x).get((stretch, way), Row())
+
     def _rows(self, x):
         """The rows of the link to x, which must be near."""
         if x not in self.lives:

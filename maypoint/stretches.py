@@ -23,6 +23,11 @@ def check_stretch(value):
     return value
 
 
+def is_address(value):
+    """Whether this is an address."""
+    return stretch_fault(value) is None and len(value) == SIGNS
+
+
 def check_address(value):
     """The value itself, if it is an address."""
     if isinstance(value, str) and len(value) != SIGNS:

@@ -23,6 +23,7 @@ class World:
 
     def __init__(self):
         self.books = {}
+        # By name: the events, in their order.
         self.seen = {}
         # By the deed `come` or `back` that brings it: what is under way, the eldest first.
         self.sent = {}
@@ -52,7 +53,7 @@ class World:
         except BadPast:
             raise BadDeed(0) from None
         self.books[name] = book
-        self.seen[name] = self.seen.get(name, ()) + (event,)
+        self.seen.setdefault(name, []).append(event)
 
     def _change_link(self, deed):
         """A link rises, or falls with all that is under way on it."""
@@ -96,7 +97,7 @@ class World:
 
     def view(self, name):
         """The past of the node of this name."""
-        return (name, self.seen.get(name, ()))
+        return (name, tuple(self.seen.get(name, ())))
 
     def book(self, name):
         """A book of its own that has seen what the node of this name has."""

@@ -13,6 +13,10 @@ FUNCTIONS = {
     "books": ("book_of(past)", "check_past(past)"),
     "worlds": ("run_deeds(deeds)",),
     "rings": ("handings(world, address)", "ring_in(pairs)", "hand_order(pairs)", "hand_ways(world, address, name)"),
+    "nets": ("question(past, address, m)",),
+    "judges": ("net_serves(past, address, m, run, ring)",),
+    "alike": ("are_alike(one, two)", "parting_of(one, two)", "parting_serves(one, two, parting)", "short_past(past)"),
+    "forms": ("check_rule(value)",),
 }
 
 CLASSES = {
