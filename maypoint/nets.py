@@ -53,12 +53,9 @@ def told_net(past, address, m, x):
     """A told net, x being up at the address with a key below m's, or m itself."""
     book, player = book_of(past), player_of(past)
     stretch = address[:SIGNS - book.v(address, x)[0]]
-    row = book.row(x, stretch, "out")
-    serial, number = row.state()[2][0]
+    serial, number = book.row(x, stretch, "out").state()[2][0]
+    # Nothing less counts for x, and nothing at all for a longer stretch: so x goes by this number.
     player.hear(x, stretch, serial)
-    if serial > row.first:
-        # Behind this one all of the node's that still counts for x is this number.
-        player.run.append(("ack", x, book.name, stretch, serial))
     if x == m:
         return tuple(player.run), (book.name, m)
     between = number_between(number, book.row(m, stretch, "in").least(), x)

@@ -17,6 +17,9 @@ FUNCTIONS = {
     "judges": ("net_serves(past, address, m, run, ring)",),
     "alike": ("are_alike(one, two)", "parting_of(one, two)", "parting_serves(one, two, parting)", "short_past(past)"),
     "forms": ("check_rule(value)",),
+    "kinds": ("kinds_of_m()", "kinds_of_x(kind)"),
+    "rules": ("rule_lets(rule, book, m)", "judge_rule(rule)", "rule_net_serves(rule, past, m, run, ring)"),
+    "fields": ("one_round(field, turn, between)",),
 }
 
 CLASSES = {
@@ -29,6 +32,9 @@ CLASSES = {
         "add_event(event)", "near()", "v(address, x)", "l(address, x)", "up(address)", "may(address, m)",
         "let(address)", "why(address, m)", "room(address, m)", "copied()", "row_states(x)")},
     "worlds": {"World()": ("do(deed)", "names()", "links()", "view(name)", "book(name)", "under_way()")},
+    "nodes": {"Node(name, homes)": ("rises(x, cost)", "falls(x)", "turns(x, cost)", "comes(x, letter)", "target(stretch)",
+                                    "number(stretch)", "told(stretch, x)", "book()")},
+    "fields": {"Field(homes)": ("do(deed)", "under_way()", "links()", "arrows(stretch)", "past(name)", "deeds()", "node(name)")},
 }
 
 

@@ -68,7 +68,7 @@ def changed_ring(chance, ring):
     """A ring of which something is otherwise."""
     other = chance.randrange(32)
     return chance.choice((
-        ring[::-1], ring[1:] + ring[:1], ring[:-1], ring + (other,), ring + ring[:1], ring + ring[1:2], ring[:1], (),
+        ring[::-1], ring + ring, ring[1:] + ring[:1], ring[:-1], ring + (other,), ring + ring[:1], ring + ring[1:2], ring[:1], (),
         ring[:1] + ring[2:] + ring[1:2], list(ring), tuple(range(8)), tuple(range(9)), tuple(bool(name) for name in ring),
         ring[:1] + ring[:1] + ring[1:], (other,) + ring[1:], ring[:2] + (other,) + ring[2:],
     ))
