@@ -87,6 +87,25 @@ class Node:
         """A copy of the book of all that the node has seen."""
         return self.seen.copied()
 
+    def stretches(self):
+        """The stretches that the node is a house of or has any report of, shorter ones first."""
+        return tuple(sorted(self.known, key=lambda text: (len(text), text)))
+
+    def is_house(self, stretch):
+        """Whether the node is a house of the stretch."""
+        return stretch in self.homes
+
+    def is_open(self, stretch):
+        """Whether the node, no house and without a target, told a number that may still count ([55])."""
+        if stretch in self.homes or stretch in self.targets:
+            return False
+        return any([self._told(stretch, x).least() is not None for x in self.costs])
+
+    def held(self):
+        """The (neighbour, stretch) of whom something that was heard is not acknowledged yet ([52])."""
+        rows = [(x, row) for x in self.seen.near() for row in self.seen.row_states(x)]
+        return [(x, stretch) for x, (stretch, way, state) in rows if way == "in" and state[1] > state[0]]
+
     def _check_near(self, x):
         """Refuses whoever is no neighbour."""
         if x not in self.costs:
@@ -103,7 +122,7 @@ class Node:
     def _settle_all(self, before):
         """All letters that are due, `before` being the targets ahead of the event."""
         letters = []
-        for stretch in sorted(self.known, key=lambda text: (len(text), text)):
+        for stretch in self.stretches():
             letters.extend(self._settle(stretch, before.get(stretch)))
         return tuple(letters)
 

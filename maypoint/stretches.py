@@ -64,3 +64,13 @@ def left_out(stretch, others):
     if found is None:
         found = left_out(stretch + "1", within)
     return found
+
+
+def all_stretches():
+    """All stretches, the longest first."""
+    level = [""]
+    rows = [""]
+    for _ in range(SIGNS):
+        level = [stretch + sign for stretch in level for sign in ("0", "1")]
+        rows = level + rows
+    return rows

@@ -20,6 +20,10 @@ FUNCTIONS = {
     "kinds": ("kinds_of_m()", "kinds_of_x(kind)"),
     "rules": ("rule_lets(rule, book, m)", "judge_rule(rule)", "rule_net_serves(rule, past, m, run, ring)"),
     "fields": ("one_round(field, turn, between)",),
+    "waits": ("held_reports(field)", "wait_row(field, x, i, stretch)", "wait_row_serves(field, x, i, stretch, row)"),
+    "dark": ("opened_nodes(field, stretch)", "arrow_chain(field, stretch, i)", "houseless_parts(field, stretch)", "dark_bound(n)"),
+    "calm": ("distances(field, stretch)", "prices_hold(field, stretch, rows)", "rest_bound(field, stretch)", "at_rest(field)"),
+    "tables": ("least_table(table)", "table_prices_hold(table, rows, prices)", "travel(field, i, address)", "node_table(field, i)"),
 }
 
 CLASSES = {
@@ -34,6 +38,7 @@ CLASSES = {
     "worlds": {"World()": ("do(deed)", "names()", "links()", "view(name)", "book(name)", "under_way()")},
     "nodes": {"Node(name, homes)": ("rises(x, cost)", "falls(x)", "turns(x, cost)", "comes(x, letter)", "target(stretch)",
                                     "number(stretch)", "told(stretch, x)", "book()")},
+    "tables": {"Table(rows)": ("longest(address)", "listed()")},
     "fields": {"Field(homes)": ("do(deed)", "under_way()", "links()", "arrows(stretch)", "past(name)", "deeds()", "node(name)")},
 }
 

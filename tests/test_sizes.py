@@ -5,15 +5,20 @@ import random
 import unittest
 
 from maypoint.books import book_of, check_past
+from maypoint.calm import at_rest, distances, prices_hold, rest_bound
+from maypoint.dark import arrow_chain, dark_bound, houseless_parts, opened_nodes
 from maypoint.errors import BadOctets, BadPast
+from maypoint.fields import Field, one_round
 from maypoint.numbers import check_number, is_below, least_of, number_between
 from maypoint.rings import hand_ways, handings, ring_in
 from maypoint.rows import Row
 from maypoint.stretches import key_of
+from maypoint.tables import Table, least_table, node_table, table_prices_hold, travel
+from maypoint.waits import held_reports, wait_row, wait_row_serves
 from maypoint.wire import decode_letter, decode_stream, encode_letter, encode_stream
 from maypoint.worlds import run_deeds
 from tests import chance as drawn
-from tests import plain
+from tests import plain, shapes
 from tests.support import outcome, raised, returned
 
 GREAT = 10 ** 12 + 100
@@ -92,3 +97,48 @@ class Sizes(unittest.TestCase):
         self.assertEqual(handings(world, "000000"), tuple(told))
         self.assertIsNone(ring_in(handings(world, "000000")))
         self.assertGreater(max(hand_ways(world, "000000", name) for name in names), 1)
+
+    def test_fields(self):
+        """Eight nodes, all links among them, 500 deeds and 200 rounds; all that is asked of a field, again and again."""
+        chance = random.Random(5)
+        homes = tuple(tuple(p for p in plain.STRETCHES if chance.random() < 0.3) for _ in range(8))
+        field, left = Field(homes), 500
+        for i, j in itertools.combinations(range(8), 2):
+            field.do(("rise", i, j, chance.randrange(1, 1001), chance.randrange(1, 1001)))
+            left -= 1
+        for turn in range(200):
+            between = [shapes.deed_by_chance(chance, field, 8, 0.02, 0.6) for _ in range(min(left, chance.randrange(9)))]
+            left -= len(between)
+            one_round(field, 10 ** 6 - turn, tuple(between))
+            self.asked(field)
+        self.assertEqual(left, 0)
+        while not at_rest(field):
+            one_round(field, 0, ())
+        self.assertEqual((held_reports(field), [opened_nodes(field, p) for p in plain.STRETCHES]), ((), [()] * 7))
+
+    def asked(self, field):
+        for x, i, p in held_reports(field):
+            self.assertIs(wait_row_serves(field, x, i, p, wait_row(field, x, i, p)), True)
+        for p in plain.STRETCHES:
+            self.assertIs(prices_hold(field, p, distances(field, p)), True)
+            self.assertGreaterEqual(rest_bound(field, p), 0)
+            self.assertEqual(len({name for part in houseless_parts(field, p) for name in part}) < 8, any(
+                field.node(i).number(p) == (0, i) for i in range(8)))
+            self.assertLessEqual(max(len(arrow_chain(field, p, i)) for i in range(8)), 8)
+        for i in range(8):
+            table = node_table(field, i)
+            self.assertEqual(travel(field, i, "010111")[1] == "dropped" and len(travel(field, i, "010111")[0]) == 1,
+                             table.longest("010111") is None)
+
+    def test_tables(self):
+        chance = random.Random(6)
+        stretches = ["".join(signs) for many in range(7) for signs in itertools.product("01", repeat=many)]
+        table = Table(tuple((p, chance.choice((None, 0, 1, 5, 31))) for p in stretches))
+        rows, prices = least_table(table)
+        self.assertIs(table_prices_hold(table, rows, prices), True)
+        self.assertIs(table_prices_hold(table, table.listed() + ((),) * 13, prices), False)
+        self.assertIs(table_prices_hold(table, rows, ((), ) * 140), False)
+        self.assertIs(table_prices_hold(table, rows, tuple((p, 10 ** 12, tuple(range(32))) for p in stretches) * 2), False)
+
+    def test_great_bounds(self):
+        self.assertEqual(dark_bound(10 ** 9), 2 * 10 ** 9 + 2)
