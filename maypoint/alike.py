@@ -98,20 +98,11 @@ def cleared(book, x, address, stretch):
     return events
 
 
-def may_come(book, event):
-    """Whether the event may come behind what the book has seen."""
-    try:
-        book.copied().add_event(event)
-    except BadPast:
-        return False
-    return True
-
-
 def asked_apart(book, other, asked):
     """Whether what is asked is an asking, and so behind one of the two alone."""
     kind = kind_of(asked)
     if kind == "event" and len(asked) == 2:
-        return may_come(book, asked[1]) != may_come(other, asked[1])
+        return book.takes(asked[1]) != other.takes(asked[1])
     if kind != "may" or len(asked) != 3 or not is_address(asked[1]) or not is_name(asked[2]):
         return False
     if asked[2] not in book.near() or asked[2] not in other.near():

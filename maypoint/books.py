@@ -3,7 +3,7 @@
 from maypoint.errors import BadPast, Refused
 from maypoint.numbers import is_below, is_name, least_of
 from maypoint.parts import kind_of, parts_fit
-from maypoint.rows import Row
+from maypoint.rows import begun_row
 from maypoint.stretches import key_of, stretches_of
 
 SIZES = {"rise": 2, "fall": 2, "told": 5, "heard": 5, "acks": 4, "backs": 4}
@@ -31,44 +31,58 @@ class Book:
     def __init__(self, name):
         self.name = name
         # By near name, then by (stretch, way): the rows of this life of the link.
+        self.rows = {}
+        # By name: how often the link has risen so far.
         self.lives = {}
+        # By near name, of links that have stood since the node started: the limit with which their rows begin ([67]).
+        self.limits = {}
+
+    def takes(self, event):
+        """Whether this is an event that may come."""
+        if not is_event(self.name, event):
+            return False
+        kind, x = event[0], event[1]
+        if kind == "rise" or x not in self.rows:
+            return kind == "rise" and x not in self.rows
+        if kind == "fall":
+            return True
+        row = self.row(x, event[2], WAYS[kind])
+        return row.may_tell(event[3]) if len(event) == 5 else row.may_ack(event[3])
 
     def add_event(self, event):
         """The node sees this event."""
-        if not is_event(self.name, event):
+        if not self.takes(event):
             raise BadPast(0)
         kind, x = event[0], event[1]
-        if (kind == "rise") == (x in self.lives):
-            raise BadPast(0)
         if kind == "rise":
-            self.lives[x] = {}
+            self.rows[x] = {}
+            self.lives[x] = self.lives.get(x, 0) + 1
         elif kind == "fall":
-            del self.lives[x]
+            del self.rows[x]
+            self.limits.pop(x, None)
         else:
-            self._take(event)
+            self._put(x, event)
 
-    def _take(self, event):
+    def _put(self, x, event):
         """Puts a report or an acknowledgement on its row."""
-        rows = self.lives[event[1]]
         place = (event[2], WAYS[event[0]])
-        row = rows[place] if place in rows else Row()
-        try:
-            if len(event) == 5:
-                row.told(event[3], event[4])
-            else:
-                row.acked(event[3])
-        except Refused:
-            raise BadPast(0) from None
-        rows[place] = row
+        row = self.row(x, place[0], place[1])
+        if len(event) == 5:
+            row.told(event[3], event[4])
+        else:
+            row.acked(event[3])
+        self.rows[x][place] = row
 
     def near(self):
         """The names to which the link stands."""
-        return tuple(sorted(self.lives))
+        return tuple(sorted(self.rows))
 
     def copied(self):
         """Another book that has seen the same."""
         other = Book(self.name)
-        other.lives = {x: copied_rows(self.lives[x]) for x in self.lives}
+        other.rows = {x: copied_rows(self.rows[x]) for x in self.rows}
+        other.lives = dict(self.lives)
+        other.limits = dict(self.limits)
         return other
 
     def row_states(self, x):
@@ -78,13 +92,16 @@ class Book:
 
     def row(self, x, stretch, way):
         """The row of one way for one stretch alone, which is only to be asked."""
-        return self._rows(x).get((stretch, way), Row())
+        rows, place = self._rows(x), (stretch, way)
+        if place in rows:
+            return rows[place]
+        return begun_row(self.limits.get(x, 0) if way == "out" else 0, None)
 
     def _rows(self, x):
         """The rows of the link to x, which must be near."""
-        if x not in self.lives:
+        if x not in self.rows:
             raise Refused(x)
-        return self.lives[x]
+        return self.rows[x]
 
     def _key(self, address, x, way):
         """The least key of one way that may still count."""
@@ -141,9 +158,14 @@ class Book:
         return least_of((self.v(address, m), self._bar(address)))
 
 
+def names_node(value):
+    """Whether this is a tuple of two, a name and a tuple."""
+    return isinstance(value, tuple) and len(value) == 2 and is_name(value[0]) and isinstance(value[1], tuple)
+
+
 def book_of(past):
     """The book of the node of this past."""
-    if not isinstance(past, tuple) or len(past) != 2 or not is_name(past[0]) or not isinstance(past[1], tuple):
+    if not names_node(past):
         raise BadPast(-1)
     book = Book(past[0])
     for at, event in enumerate(past[1]):

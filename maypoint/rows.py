@@ -13,9 +13,17 @@ class Row:
         # The falls of [17]: no other report can ever be told by an answer.
         self.steps = ()
 
+    def may_tell(self, serial):
+        """Whether a report of this serial may be told."""
+        return serial > self.last
+
+    def may_ack(self, k):
+        """Whether this number may be acknowledged."""
+        return self.first < k <= self.last
+
     def told(self, serial, number):
         """Takes a report."""
-        if serial <= self.last:
+        if not self.may_tell(serial):
             raise Refused(serial)
         kept = [step for step in self.steps if is_below(step[1], number)]
         self.last = serial
@@ -23,7 +31,7 @@ class Row:
 
     def acked(self, k):
         """Takes an acknowledgement."""
-        if k <= self.first or k > self.last:
+        if not self.may_ack(k):
             raise Refused(k)
         self.first = k
         self.steps = tuple([step for step in self.steps if step[0] >= k])

@@ -5,13 +5,13 @@ from maypoint.errors import BadDeed, BadPast
 from maypoint.numbers import is_name
 from maypoint.parts import kind_of, parts_fit
 
-SIZES = {"rise": 3, "fall": 3, "tell": 6, "come": 4, "ack": 5, "back": 4}
+DEED_SIZES = {"rise": 3, "fall": 3, "tell": 6, "come": 4, "ack": 5, "back": 4}
 
 
 def is_deed(value):
     """Whether this has the form of a deed."""
     kind = kind_of(value)
-    if kind not in SIZES or len(value) != SIZES[kind]:
+    if kind not in DEED_SIZES or len(value) != DEED_SIZES[kind]:
         return False
     if not is_name(value[1]) or not is_name(value[2]) or value[1] == value[2]:
         return False

@@ -24,6 +24,10 @@ FUNCTIONS = {
     "dark": ("opened_nodes(field, stretch)", "arrow_chain(field, stretch, i)", "houseless_parts(field, stretch)", "dark_bound(n)"),
     "calm": ("distances(field, stretch)", "prices_hold(field, stretch, rows)", "rest_bound(field, stretch)", "at_rest(field)"),
     "tables": ("least_table(table)", "table_prices_hold(table, rows, prices)", "travel(field, i, address)", "node_table(field, i)"),
+    "journal": ("row_line(row)", "read_journal(text)", "opened_journal(rows)"),
+    "stops": ("started_book(name, rows, links, elder)", "check_story(story)", "story_book(story)", "needed_rows(book, rows, flushed, event)",
+              "story_fault(story)", "stop_net(story, at)", "stop_net_serves(story, at, net)"),
+    "whole": ("all_answers(world, address)", "told_bounds(n, distance, cost)"),
 }
 
 CLASSES = {
@@ -39,6 +43,9 @@ CLASSES = {
     "nodes": {"Node(name, homes)": ("rises(x, cost)", "falls(x)", "turns(x, cost)", "comes(x, letter)", "target(stretch)",
                                     "number(stretch)", "told(stretch, x)", "book()")},
     "tables": {"Table(rows)": ("longest(address)", "listed()")},
+    "journal": {"Journal()": ("write(row)", "flush()", "cuts()", "rows_left(many)", "whole_text()")},
+    "stops": {"Keeper(name)": ("do(event)", "story()", "let(address)", "book()")},
+    "desk": {"Desk()": ("say(line)",)},
     "fields": {"Field(homes)": ("do(deed)", "under_way()", "links()", "arrows(stretch)", "past(name)", "deeds()", "node(name)")},
 }
 
