@@ -35,7 +35,7 @@ def taken_event(kind, line, book):
 
 def taken_deed(line):
     """The deed that the words of a line say, whether or not it can be done."""
-    kind = line.take_one(DEED_SIZES)
+    kind = line.take_one(list(DEED_SIZES))
     i, j = line.take_name(), line.take_name()
     line.check(i != j)
     deed = (kind, i, j)
@@ -71,9 +71,9 @@ class Desk:
     """A past and a run, and what stood ahead of each change that was not taken back."""
 
     def __init__(self):
-        self.past = (0, ())
-        self.run = ()
-        self.changes = []
+        # The past and the run.
+        self.stands = ((0, ()), ())
+        self.stood = []
 
     def say(self, line):
         """The answer to a line."""
@@ -90,45 +90,46 @@ class Desk:
         past, run = self._changed(kind, words)
         words.end()
         self._change(past, run)
-        return self._standing()
+        return self._count()
 
     def _changed(self, kind, words):
         """The past and the run behind a change of this kind."""
+        past, run = self.stands
         if kind == "node":
             return (words.take_name(), ()), ()
         if kind == "deed":
-            return self.past, self.run + (taken_deed(words),)
+            return past, run + (taken_deed(words),)
         if kind == "clear":
-            return self.past, ()
-        name, events = self.past
-        return (name, events + (taken_event(kind, words, book_of(self.past)),)), self.run
+            return past, ()
+        return (past[0], past[1] + (taken_event(kind, words, book_of(past)),)), run
 
     def _change(self, past, run):
         """Lets this past and this run stand from now on."""
-        self.changes.append((self.past, self.run))
-        self.past = past
-        self.run = run
+        self.stood.append(self.stands)
+        self.stands = (past, run)
 
     def _undo(self, words):
         """Takes back the last change."""
-        words.check(len(self.changes) > 0)
+        words.check(len(self.stood) > 0)
         words.end()
-        self.past, self.run = self.changes.pop()
-        return self._standing()
+        self.stands = self.stood.pop()
+        return self._count()
 
-    def _standing(self):
+    def _count(self):
         """How many events and deeds stand."""
-        return f"{len(self.past[1])} events, {len(self.run)} deeds"
+        past, run = self.stands
+        return f"{len(past[1])} events, {len(run)} deeds"
 
     def _net(self, words):
         """Takes the run of a told net, where there is one."""
+        past = self.stands[0]
         address = words.take_address()
-        m = words.take_near(book_of(self.past))
+        m = words.take_near(book_of(past))
         words.end()
-        answer = question(self.past, address, m)
+        answer = question(past, address, m)
         if answer[0] != "net":
             return answer[0]
-        self._change(self.past, answer[1])
+        self._change(past, answer[1])
         ring = ".".join([str(name) for name in answer[2]])
         return f"ring {ring}"
 
@@ -136,7 +137,8 @@ class Desk:
         """The answer to a question."""
         if kind in ("event", "show"):
             return self._shown(kind, words)
-        book = book_of(self.past)
+        past, run = self.stands
+        book = book_of(past)
         if kind == "near":
             words.end()
             return names_said(book.near())
@@ -148,13 +150,14 @@ class Desk:
         if kind == "judge":
             ring = words.take_ring()
             words.end()
-            return "serves" if net_serves(self.past, address, x, self.run, ring) else "fails"
+            return "serves" if net_serves(past, address, x, run, ring) else "fails"
         words.end()
         return told_of(book, kind, address, x)
 
     def _shown(self, kind, words):
         """The line that says an event of the past, or a deed of the run."""
-        rows = self.past[1] if kind == "event" else self.run
+        past, run = self.stands
+        rows = past[1] if kind == "event" else run
         at = words.take_whole(0)
         words.check(at < len(rows))
         words.end()

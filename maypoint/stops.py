@@ -43,7 +43,7 @@ class Course:
         self.whole = Book(name)
         self.own = Book(name)
         # By near name, of links that have stood since the last start: by stretch, the first serial that came since.
-        self.since = {}
+        self.firsts = {}
 
     def takes(self, event):
         """Whether this is an event that may come."""
@@ -68,11 +68,11 @@ class Course:
     def _fits_start(self, event):
         """Whether an event of the past agrees with what the node knows since its last start."""
         kind, x = event[0], event[1]
-        if x not in self.since:
+        if x not in self.firsts:
             return True
         if kind == "told":
             return self.own.takes(event)
-        return kind != "acks" or event[2] in self.since[x] and event[3] >= self.since[x][event[2]]
+        return kind != "acks" or event[2] in self.firsts[x] and event[3] >= self.firsts[x][event[2]]
 
     def sees(self, event):
         """The event comes, which may come."""
@@ -93,7 +93,7 @@ class Course:
         links = tuple([(x, lives[x]) for x in near])
         elder = tuple([(x, lives[x]) for x in lives if x not in near])
         self.own = started_book(self.whole.name, self.journal.rows, links, elder)
-        self.since = {x: {} for x in near}
+        self.firsts = {x: {} for x in near}
 
     def _see(self, event):
         """The node sees an event of the past."""
@@ -103,12 +103,12 @@ class Course:
         if self.own.takes(event):
             self.own.add_event(event)
         if kind == "fall":
-            self.since.pop(x, None)
-        elif kind == "heard" and x in self.since:
-            self.since[x].setdefault(event[2], event[3])
+            self.firsts.pop(x, None)
+        elif kind == "heard" and x in self.firsts:
+            self.firsts[x].setdefault(event[2], event[3])
 
-    def past(self):
-        """All that the node has seen."""
+    def true_past(self):
+        """All that the node has seen, stops or none."""
         return (self.whole.name, tuple([event for event in self.events if event[0] in SIZES]))
 
 
@@ -285,7 +285,7 @@ def stop_net(story, at):
     course.sees(("stop", many))
     leave_alone(course, x, stretch, address)
     tell_apart(course, x, stretch, fault[1], story[1][at])
-    player = player_of(course.past())
+    player = player_of(course.true_past())
     if fault[1] == "floor":
         # Let x have heard the least number that counts; the node does not see it.
         player.hear(x, stretch, steps[0][0])
@@ -311,5 +311,5 @@ def stop_net_serves(story, at, net):
     course = course_of((story[0], story[1][:at + 1]))
     if not tail_may_come(course, tail) or x not in course.own.let(address):
         return False
-    world = world_seen(course.past(), run)
+    world = world_seen(course.true_past(), run)
     return world is not None and story[0] in world.book(x).let(address)

@@ -403,3 +403,12 @@ def faulty_stories(seed, many):
         if course is not None:
             many -= 1
             yield chance, course
+
+
+def renamed(event, name, other):
+    """The event of another node: its own numbers are that node's, also where its name stands within them."""
+    if type(event) is not tuple:
+        return event
+    if plain.is_number(event) and event[-1] == name:
+        return tuple(other if entry == name else entry for entry in event)
+    return tuple(renamed(part, name, other) for part in event)

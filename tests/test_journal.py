@@ -122,7 +122,7 @@ class Texts(unittest.TestCase):
     def test_cut_at_every_sign(self):
         chance = random.Random(66)
         for many in (0, 1, 2, 7, 60):
-            rows = self.rows(chance, many)
+            rows = self.rows(chance, many) if many < 60 else ROWS[3:5] * 5 + tuple(("limit", k) for k in range(1, 51))
             text = "".join(map(line, rows))
             ends = [sum(len(line(row)) for row in rows[:at]) for at in range(many + 1)]
             for cut in range(len(text) + 1):
@@ -179,7 +179,8 @@ class Texts(unittest.TestCase):
         for words in ("limit 1", "floor 5 1 - none"):
             for end in ("", " ", " 0000", " " + check(words)[:3], " " + check(words) + " ", "  " + check(words), " 0" + check(words), check(words), " +" + check(words)[1:]):
                 self.faulty(chance, words + end + "\n")
-        self.faulty(chance, "\n")
+        for words in ("", "limit", "floor", "ceiling", "-", "none", "0000", "x"):
+            self.faulty(chance, words + "\n")
 
     def test_line_feeds_alone_end_lines(self):
         for between in ("\r\n", "\r", "\x0b", "\x0c", "\x1c", "\x85", "\u2028"):

@@ -171,6 +171,32 @@ class Rows(unittest.TestCase):
                 self.alike(other, twin)
                 self.alike(row, plain)
 
+    def parted(self, one, two):
+        """Whether something is taken, refused or answered unlike, by the proof of [18]."""
+        most = max(one.state()[1], two.state()[1]) + 2
+        if (one.least(), one.newest()) != (two.least(), two.newest()):
+            return True
+        for k in range(most):
+            for ask in (lambda row: row.since(k), lambda row: row.copied().acked(k), lambda row: row.copied().told(k, None)):
+                if outcome(ask, one) != outcome(ask, two):
+                    return True
+        return False
+
+    def test_unlike_states_are_parted_and_equal_ones_never(self):
+        chance, rows = random.Random(19), []
+        for _ in range(120):
+            row, plain = chance.choice((Row(), begun_row(0, (4, 2)), begun_row(2, (3, 1)), begun_row(2, None))), PlainRow()
+            for _ in range(chance.randrange(6)):
+                outcome(row.told, chance.randrange(1, 5), chance.choice(NUMBERS))
+                outcome(row.acked, chance.randrange(1, 5))
+            rows.append(row)
+        met = {True: 0, False: 0}
+        for one, two in itertools.combinations(rows, 2):
+            same = one.state() == two.state()
+            met[same] += 1
+            self.assertEqual(self.parted(one, two), not same, (one.state(), two.state()))
+        self.assertGreater(min(met.values()), 100, met)
+
     def test_equal_states_answer_alike(self):
         one, two = Row(), Row()
         for serial, number in ((1, (9, 1)), (2, (5, 1)), (3, None), (4, (5, 1))):

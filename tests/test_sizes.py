@@ -7,18 +7,19 @@ import unittest
 from maypoint.books import book_of, check_past
 from maypoint.calm import at_rest, distances, prices_hold, rest_bound
 from maypoint.dark import arrow_chain, dark_bound, houseless_parts, opened_nodes
-from maypoint.errors import BadOctets, BadPast
+from maypoint.errors import BadOctets, BadPast, Refused
 from maypoint.fields import Field, one_round
 from maypoint.numbers import check_number, is_below, least_of, number_between
-from maypoint.rings import hand_ways, handings, ring_in
+from maypoint.rings import hand_order, hand_ways, handings, ring_in
 from maypoint.rows import Row
-from maypoint.stretches import key_of
+from maypoint.stops import Keeper, check_story, stop_net, stop_net_serves, story_book, story_fault
+from maypoint.stretches import key_of, left_out
 from maypoint.tables import Table, least_table, node_table, table_prices_hold, travel
 from maypoint.waits import held_reports, wait_row, wait_row_serves
 from maypoint.wire import decode_letter, decode_stream, encode_letter, encode_stream
 from maypoint.worlds import run_deeds
 from tests import chance as drawn
-from tests import plain, shapes
+from tests import plain, shapes, stories
 from tests.support import outcome, raised, returned
 
 GREAT = 10 ** 12 + 100
@@ -139,6 +140,59 @@ class Sizes(unittest.TestCase):
         self.assertIs(table_prices_hold(table, table.listed() + ((),) * 13, prices), False)
         self.assertIs(table_prices_hold(table, rows, ((), ) * 140), False)
         self.assertIs(table_prices_hold(table, rows, tuple((p, 10 ** 12, tuple(range(32))) for p in stretches) * 2), False)
+
+    def test_stretches(self):
+        addresses = ["".join(signs) for signs in itertools.product("01", repeat=6)]
+        for lacking in addresses[::9]:
+            others = tuple(a for a in addresses if a != lacking) + ("01010",) * 7
+            held = "01010" in lacking[:5]
+            self.assertEqual((len(others), left_out("", others)), (70, None if held else lacking))
+        self.assertIsNone(left_out("", tuple(addresses) + ("",) * 6))
+
+    def test_pairs(self):
+        """Sixty pairs: rows of all names, and a ring of all of them."""
+        row = tuple((one, one + 1) for one in range(31)) + tuple((one, one + 2) for one in range(29))
+        self.assertEqual((len(row), ring_in(row), hand_order(row[::-1])), (60, None, tuple(range(32))))
+        ring = row[:59] + ((31, 0),)
+        self.assertEqual(outcome(hand_order, ring), raised(Refused(ring)))
+        found = ring_in(ring)
+        self.assertTrue(all(pair in ring for pair in zip(found, found[1:] + found[:1])))
+
+    def test_stories(self):
+        """Two hundred events, with rows written ahead and late, and the first fault at the last of them."""
+        for seed in (7, 8):
+            course = None
+            while course is None:
+                course = stories.with_fault(random.Random(seed), 150, others=8)
+                seed += 100
+            story = stories.story_of(course)
+            while len(story[1]) < 199:
+                story = (story[0], (("flush",),) + story[1])
+            self.assertIs(check_story(story), story)
+            at = len(story[1]) - 1
+            self.assertEqual((story_fault(story)[0], story_fault((story[0], story[1][:-1]))), (at, None))
+            self.assertEqual(stories.asked(story_book(story)), stories.asked(course.own))
+            if story[1][at][0] != "told" or story[1][at][4] is not None:
+                self.assertIs(stop_net_serves(story, at, stop_net(story, at)), True)
+
+    def test_keepers(self):
+        chance = random.Random(9)
+        keeper, names = Keeper(2), range(3, 10)
+        for x in names:
+            keeper.do(("rise", x))
+        serial = {}
+        while len(keeper.story()[1]) < 195:
+            x, p = chance.choice(names), chance.choice(plain.STRETCHES)
+            serial[x, p] = max(serial.get((x, p), 0), 10 ** 12 - 600) + 1
+            number = (10 ** 12,) + (chance.choice((-1, 1)) * 10 ** 12,) * 8
+            keeper.do(("told", x, p, serial[x, p], number + (2,)))
+            keeper.do(("heard", x, p, serial[x, p], number + (x,)))
+            keeper.do(("acks", x, p, serial[x, p]))
+        self.assertIsNone(story_fault(keeper.story()))
+        rows = [event for event in keeper.story()[1] if event[0] == "write"]
+        keeper.do(("stop", len(rows)))
+        self.assertIsNone(story_fault(keeper.story()))
+        self.assertEqual(keeper.book().near(), tuple(names))
 
     def test_great_bounds(self):
         self.assertEqual(dark_bound(10 ** 9), 2 * 10 ** 9 + 2)

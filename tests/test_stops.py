@@ -312,6 +312,57 @@ class Nets(unittest.TestCase):
                 self.is_net(story, len(right), net)
                 self.assertLess(len(run_deeds(net[1]).links()), 2)
 
+    def test_told_nets(self):
+        """Cuts of unlike faults, numbers side by side, and floors of which nothing was told."""
+        up, flush = ("rise", 5), ("flush",)
+        floor, none, limit = ("write", ("floor", 5, 1, "", (7, 3))), ("write", ("floor", 5, 1, "", None)), ("write", ("limit", 9))
+        told, longer = ("told", 5, "", 1, (7, 3)), ("write", ("floor", 5, 1, "0", (4, 3)))
+        for events, word in (
+            # The lesser cut is wrong by its limit alone, the greater one by its floor, or the other way round.
+            ((up, floor, flush, none, told), "floor"), ((up, limit, none, flush, floor, told), "floor"), ((up, floor, flush, limit, told), "limit"),
+            ((up, none, flush, floor, limit, floor, told), "floor"),
+            # By the own book a number counts for a longer stretch, and for a shorter one, though none was told.
+            ((up, longer, limit, flush, told), "floor"), ((up, longer, floor, flush, told), "limit"), ((up, longer, limit, ("write", ("ceiling", 5, 1, "", (2, 5)))), "ceiling"),
+            ((up, floor, limit, flush, ("told", 5, "0", 1, (7, 3))), "floor"), ((up, longer, flush, ("told", 5, "0", 1, (4, 3))), "limit"),
+            ((up, limit, flush, ("heard", 5, "00", 4, (2, 5)), ("told", 5, "0", 1, (7, 3))), "floor"),
+            # Between the two numbers hardly any other one lies.
+            ((up, limit, ("write", ("floor", 5, 1, "", (7, 3, 3))), flush, told), "floor"), ((up, limit, ("write", ("floor", 5, 1, "", (7, 3, -9, 3))), flush, told), "floor"),
+            ((up, ("heard", 5, "", 1, (2, 5, 5)), ("write", ("ceiling", 5, 1, "", (2, 5)))), "ceiling"),
+            ((up, ("heard", 5, "", 1, (2, 5, 0, 5)), ("write", ("ceiling", 5, 1, "", (2, 5)))), "ceiling"),
+            ((up, ("heard", 5, "", 1, (2, 0, 5)), ("write", ("ceiling", 5, 1, "", (2, -1, 5)))), "ceiling"), ((up, ("write", ("ceiling", 5, 1, "", (0, 5)))), "ceiling"),
+        ):
+            for name in (3, 9):
+                # The same by a node whose name is above its neighbour's.
+                story = (name, tuple(stories.renamed(event, 3, name) for event in events))
+                self.assertIs(check_story(story), story)
+                at = len(events) - 1
+                self.assertEqual(story_fault(story), (at, word), story)
+                self.is_net(story, at, stop_net(story, at))
+
+    def test_a_tail_of_a_stop_alone(self):
+        """What the node heard it knows by its ceiling, what it told it does not know any more."""
+        story = (3, (("rise", 5), ("heard", 5, "", 1, (8, 5)), ("write", ("ceiling", 5, 1, "", (8, 5))), ("flush",), ("told", 5, "", 1, (7, 3))))
+        run = (("rise", 3, 5), ("tell", 5, 3, "", 1, (8, 5)), ("come", 5, 3, ""), ("tell", 3, 5, "", 1, (7, 3)), ("come", 3, 5, ""))
+        self.assertEqual(story_fault(story), (4, "floor"))
+        for tail, told in (((("stop", 1),), True), ((), False), ((("flush",),), False), ((("flush",), ("stop", 1)), False), ((("stop", 1), ("stop", 1)), False),
+                           ((("stop", 0),), False), ((("stop", 2),), False), ((("stop", True),), False), ((("stop", 1), ("flush",)), True)):
+            self.assertIs(self.same(story, 4, (tail, run, "000000", 5)), told)
+        self.assertIs(self.same(story, 4, ((("stop", 1),), run[:-1], "000000", 5)), False)
+        self.assertIs(self.same(story, 3, ((("stop", 1),), run, "000000", 5)), False)
+
+    def test_a_stop_is_the_first_of_the_tail(self):
+        """Where the story itself has stopped already, what comes behind it is no net."""
+        for chance, course in stories.faulty_stories(693, 25):
+            story, at = stories.story_of(course), len(course.events) - 1
+            if course.wrong() == "limit" and story[1][at][4] is None:
+                continue
+            tail, *rest = stop_net(story, at)
+            for many in (1, len(tail) // 2, len(tail)):
+                later = (story[0], story[1][:at + 1] + tail[:many])
+                self.assertIs(check_story(later), later)
+                self.assertFalse(self.same(later, len(later[1]) - 1, (tail[many:],) + tuple(rest)))
+                self.assertTrue(self.same(later, at, (tail,) + tuple(rest)))
+
     def changed(self, chance, story, net):
         """A net of which one part is another one."""
         tail, run, address, x = net

@@ -242,6 +242,12 @@ class OwnBooks(unittest.TestCase):
         again = (3, story[1] + (("fall", 5), ("rise", 5), ("told", 5, "", 1, None), ("heard", 5, "", 1, None), ("acks", 5, "", 1)))
         self.assertIs(check_story(again), again)
 
+    def test_true_is_no_number_of_rows(self):
+        story = (3, (("write", ("limit", 1)),))
+        for many, told in ((0, True), (1, True), (False, False), (True, False), (-1, False), (2, False)):
+            other = with_event(story, ("stop", many))
+            self.assertEqual(outcome(check_story, other), returned(other) if told else raised(BadPast(1)))
+
     def test_lives(self):
         """The life of a link is how often it has risen, whether it stood at a start or fell ahead of it."""
         story = (3, (("rise", 5), ("fall", 5), ("rise", 5), ("rise", 7), ("fall", 7), ("stop", 0), ("rise", 7)))

@@ -268,7 +268,7 @@ class Letters(unittest.TestCase):
 
     def test_by_a_plain_reading(self):
         met = {}
-        for chance, n, field in shapes.instants(63, 60, 12, falls=0.08):
+        for chance, n, field in shapes.instants(63, 45, 12, falls=0.08):
             before = field.deeds()
             for i in range(n):
                 for a in self.addresses:
@@ -299,8 +299,8 @@ class Letters(unittest.TestCase):
     def test_first_theorem(self):
         met = {}
         for chance, n, field in shapes.instants(64, 60, 15, falls=0.08):
+            homes = bare.homes_of(field)
             for i in range(n):
-                homes = bare.homes_of(field)
                 for a in self.addresses:
                     to = self.table_tells(field, i, a)
                     p = bare.goes_by(field, homes, i, [a[:many] for many in range(7)])

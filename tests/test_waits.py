@@ -77,6 +77,22 @@ class Rows(unittest.TestCase):
             self.assertEqual(field.deeds(), before)
         self.assertGreater(many[2], 800)
 
+    def test_a_row_goes_on_by_its_own_stretch(self):
+        """Two hold what the last node told for the stretch; a third one, of a lesser name, what it told for another stretch."""
+        field = Field((("", "0"), ("",)) + ((),) * 6)
+        for link in ((0, 5, 1, 1), (5, 6, 1, 1), (6, 7, 1, 1), (6, 4, 1, 1), (6, 1, 1000, 1), (1, 2, 1, 1)):
+            field.do(("rise",) + link)
+        while field.under_way():
+            one_round(field, 0, ())
+        field.do(("turn", 5, 0, 40))
+        for way in ((5, 0, "", "report"), (0, 5, "", "ack"), (5, 6, "", "report"), (6, 7, "", "report"), (6, 4, "", "report"), (6, 1, "", "report"),
+                    (1, 6, "", "ack"), (6, 5, "", "report"), (5, 6, "", "ack"), (5, 6, "0", "report"), (6, 1, "0", "report")):
+            field.do(("bring",) + way)
+        self.assertEqual(held_reports(field), ((1, 6, "0"), (4, 6, ""), (6, 5, ""), (6, 5, "0"), (7, 6, "")))
+        row = wait_row(field, 6, 5, "")
+        self.assertIn(row, (((5, 6, 4), (4, 6, "", "report")), ((5, 6, 7), (7, 6, "", "report"))))
+        self.assertIs(bare.row_serves(field, held_reports(field), 6, 5, "", row), True)
+
     def test_refused_if_nothing_is_held(self):
         for chance, n, field in shapes.instants(54, 12, 8):
             held = bare.bare(field).held()
@@ -157,13 +173,49 @@ class Serves(unittest.TestCase):
     def test_every_letter_of_every_short_row(self):
         """Of the other kind, of another stretch, of other nodes, and one that is not under way."""
         met = {True: 0, False: 0}
-        for chance, n, field in shapes.instants(58, 30, 20, sizes=(3, 4), turns=0.35):
+        for chance, n, field in shapes.instants(58, 20, 16, sizes=(3, 4), turns=0.35):
             ways = [(one, other, p, kind) for one in range(n) for other in range(n)
                     for p in shapes.stretches_told(field) for kind in ("report", "ack", "mail")]
             for x, i, p in held_reports(field):
                 for way in ways:
                     met[self.same(field, x, i, p, ((i, x), way))] += 1
         self.assertGreater(min(met.values()), 50, met)
+
+    def test_three_nodes_of_whom_each_holds_what_the_one_ahead_told(self):
+        """The middle one must have the one ahead as its target."""
+        met = {}
+        for chance, n, field in shapes.instants(59, 150, 30, sizes=(4, 5, 6), turns=0.4, falls=0.01):
+            held = held_reports(field)
+            for x, i, p in held:
+                for y in [y for y, name, q in held if (name, q) == (x, p)]:
+                    kind = field.node(x).target(p) == i
+                    for way in field.under_way():
+                        told = self.same(field, x, i, p, ((i, x, y), way))
+                        met[kind, told] = met.get((kind, told), 0) + 1
+        self.assertGreater(min(met.get((True, told), 0) for told in (True, False)), 5, met)
+
+    def test_a_middle_node_with_another_target(self):
+        """Node 1 holds what 3 told, for its target is 2; node 4 holds what 1 told."""
+        field = Field((("",), (), (), (), (), ()))
+        for link in ((0, 2, 1, 10), (0, 3, 1, 2), (1, 2, 1, 1), (1, 3, 1000, 1000), (1, 4, 1, 1), (4, 5, 1, 1)):
+            field.do(("rise",) + link)
+        while field.under_way():
+            one_round(field, 0, ())
+        field.do(("turn", 2, 0, 20))
+        # What was told to node 3 stays under way; all others have acknowledged the new numbers.
+        for _ in range(40):
+            for way in field.under_way():
+                if 3 not in way[:2]:
+                    field.do(("bring",) + way)
+        for deed in (("turn", 1, 2, 11), ("bring", 1, 4, "", "report"), ("turn", 3, 0, 15), ("bring", 3, 1, "", "report")):
+            field.do(deed)
+        self.assertEqual((held_reports(field), field.arrows("")), (((1, 3, ""), (4, 1, "")), (None, 2, 0, 0, 1, 4)))
+        self.assertEqual(wait_row(field, 1, 3, ""), ((3, 1), (1, 3, "", "report")))
+        for way in field.under_way():
+            for nodes in ((3, 1), (3, 1, 4), (1, 4), (1, 4, 5), (1, 4, 1), (3, 1, 3)):
+                for x, i in ((1, 3), (4, 1)):
+                    told = self.same(field, x, i, "", (nodes, way))
+                    self.assertFalse(told and len(nodes) > 2)
 
     def test_any_value(self):
         field = waiting_row(5)
@@ -220,13 +272,13 @@ class Rounds(unittest.TestCase):
 
     def test_each_is_acknowledged_in_time(self):
         waited = 0
-        for seed in range(4):
+        for seed in range(3):
             for chance, n, field in shapes.instants(540 + seed, 12, 4, turns=0.4):
                 due, ahead = self.due(field), len(field.deeds())
                 waited += len(due)
                 self.play(chance, n, field, chance.choice((None, "ack")))
                 self.check(field, due, ahead)
-        self.assertGreater(waited, 100)
+        self.assertGreater(waited, 60)
 
     def test_long_rows_in_time(self):
         chance = random.Random(541)
