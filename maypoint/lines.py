@@ -36,13 +36,16 @@ class Line:
         self.check(word in words)
         return word
 
-    def take_whole(self, least):
-        """Takes a whole number from `least` on."""
-        word = self.take()
+    def _whole(self, word):
+        """The whole number that the word that was taken last, or a part of it, says."""
         try:
-            whole = whole_of(word, len(word))
+            return whole_of(word, len(word))
         except NoWord:
             raise BadText(self.taken - 1) from None
+
+    def take_whole(self, least):
+        """Takes a whole number from `least` on."""
+        whole = self._whole(self.take())
         self.check(whole >= least)
         return whole
 
@@ -82,11 +85,7 @@ class Line:
 
     def take_ring(self):
         """Takes one or more names with dots between them."""
-        word = self.take()
-        try:
-            names = tuple([whole_of(name, len(name)) for name in word.split(".")])
-        except NoWord:
-            raise BadText(self.taken - 1) from None
+        names = tuple([self._whole(name) for name in self.take().split(".")])
         self.check(all([is_name(name) for name in names]))
         return names
 
